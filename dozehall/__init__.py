@@ -1,0 +1,1 @@
+"""Dozehall: rooms in which guests sleep only if it is still so."""
