@@ -97,6 +97,15 @@ class Slumber:
         self.closed = None
         self.how = "asleep"
 
+    def lead(self, place, room):
+        """The entry at that place moved the guest to that room's line."""
+        self.trail.append((place, room))
+
+    def close(self, place, how):
+        """The entry at that place ended the sleep."""
+        self.closed = place
+        self.how = how
+
     def told(self):
         """The sleep as a tuple."""
         return self.guest, self.begun, tuple(self.trail), self.closed, self.how
@@ -108,14 +117,13 @@ def sleeps(log):
     last = {}
     for place, entry in enumerate(log):
         for guest in moved_by(entry):
-            last[guest].trail.append((place, entry[2]))
-        how = HOWS.get(entry[0])
+            last[guest].lead(place, entry[2])
         for guest in ended_by(entry):
-            last[guest].closed = place
-            last[guest].how = how
+            last[guest].close(place, HOWS[entry[0]])
         if entry[-1] == "asleep":
-            last[entry[1]] = Slumber(entry[1], place)
-            slumbers.append(last[entry[1]])
+            slumber = Slumber(entry[1], place)
+            slumbers.append(slumber)
+            last[slumber.guest] = slumber
     return [slumber.told() for slumber in slumbers]
 
 
