@@ -1,15 +1,16 @@
 """Halls with keys: each has a holder, to whom those who wait for it lend their standing."""
 
-from dozehall.errors import NoKey, NotHolder, Ring, TwoNames
+from dozehall.errors import NoKey, NotHolder, Ring
 from dozehall.hall import Hall, copy_fields, guests_text
 from dozehall.kinds import ALL, EVERY
+from dozehall.names import check_once
 
 
 class KeyHall(Hall):
     """A hall that has keys besides. The line of a key is kept as that of a room, by its name."""
 
     def __init__(self, rooms, keys):
-        check_names(rooms, keys)
+        check_once(list(rooms) + list(keys))
         Hall.__init__(self, rooms)
         self.holders = {key: None for key in keys}
 
@@ -163,10 +164,3 @@ class KeyHall(Hall):
             way.append(self.holders[self.beds[way[-1]].name])
         if way[-1] == guest:
             raise Ring(way)
-
-
-def check_names(rooms, keys):
-    """Refuses a key whose name is a room's or stands ahead of it in the list."""
-    for at, key in enumerate(keys):
-        if key in rooms or key in keys[:at]:
-            raise TwoNames(key)

@@ -1,6 +1,7 @@
 """Worlds: guests that go through plans of rows, and the states that they come to."""
 
 from dozehall.errors import BadPlan, NoMove
+from dozehall.lines import join_line
 from dozehall.rows import changed_place, counted, is_bed, late_place, row_fits, woken_place
 
 
@@ -157,17 +158,9 @@ class World:
         seat = self.seats[row[1]]
         still = row[2] if row[0] == "wait" else draft.owns[guest]
         if draft.numbers[seat] == still:
-            self.line_up(draft, guest, seat)
+            join_line(draft.lines[seat], guest, self.ranks)
         else:
             draft.places[guest] = changed_place(row)
-
-    def line_up(self, draft, guest, seat):
-        """The guest comes to stand behind the last one in the line whose rank is no less than its own."""
-        line = draft.lines[seat]
-        at = len(line)
-        while at > 0 and self.ranks[line[at - 1]] < self.ranks[guest]:
-            at -= 1
-        line.insert(at, guest)
 
     def rouse(self, draft, seat, many):
         """The first so many guests of the line are woken."""
@@ -181,7 +174,7 @@ class World:
         line = draft.lines[seat]
         draft.lines[seat] = line[many:]
         for guest in line[:many]:
-            self.line_up(draft, guest, other)
+            join_line(draft.lines[other], guest, self.ranks)
 
 
 def sleepers(state):
