@@ -1,8 +1,13 @@
 """A hall with keys written a second time, slowly and from the document alone, to hold the program against.
 
 Lines are kept as lists and put in order behind each deed; deeds tell their answer or the name and the thing of
-their refusal.
+their refusal. Besides: deeds that are drawn.
 """
+
+ROOMS = {"a": 0, "b": 1, "c": -1}
+KEYS = ["k", "l", "m", "n"]
+GUESTS = [0, 1, 2, 3, 4, 5, 6, 999999]
+STAGE_1 = ("put", "nudge", "rank", "sleep", "wake", "move", "tick")
 
 
 class Refused(Exception):
@@ -192,3 +197,28 @@ class PlainHall:
         self.holder_of[key] = told
         self.entries.append(("give", guest, key, told))
         return told
+
+
+def some_deed(chance, words, clock):
+    """A deed of which the most are not refused."""
+    word = chance.choice(words)
+    guest = chance.choice(GUESTS)
+    room = chance.choice(["a", "b", "c"]) if chance.random() < 0.95 else chance.choice(["k", "z"])
+    other = chance.choice(["a", "b", "c"])
+    key = chance.choice(KEYS) if chance.random() < 0.95 else chance.choice(["a", "z"])
+    number = chance.choice([-1, 0, 0, 1])
+    until = chance.choice([None, None, clock, clock + 1, clock + 2, clock + 5])
+    mask = chance.choice([1, 2, 3, 128, 255, 255]) if chance.random() < 0.95 else chance.choice([0, 256])
+    count = chance.choice([0, 1, 1, 2, 3, 1000]) if chance.random() < 0.95 else -1
+    moves = chance.choice([0, 1, 2, 1000]) if chance.random() < 0.95 else -2
+    return {
+        "put": ("put", room, number),
+        "nudge": ("nudge", guest),
+        "rank": ("rank", guest, chance.choice([-2, 0, 0, 1, 2, 9])),
+        "sleep": ("sleep", guest, room, number, until, mask),
+        "wake": ("wake", room, count, mask),
+        "move": ("move", room, other, chance.choice([None, None, number]), count, moves),
+        "tick": ("tick", chance.choice([0, 1, 1, 2]) if chance.random() < 0.95 else -1),
+        "take": ("take", guest, key, until),
+        "give": ("give", guest, key),
+    }[word]

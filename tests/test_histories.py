@@ -3,17 +3,12 @@
 import random
 import unittest
 
-from plain_hall import PlainHall
+from plain_hall import GUESTS, KEYS, ROOMS, STAGE_1, PlainHall, some_deed
 
 from dozehall.books import first_fault, sleeps
 from dozehall.errors import DozeError
 from dozehall.hall import Hall
 from dozehall.keys import KeyHall
-
-ROOMS = {"a": 0, "b": 1, "c": -1}
-KEYS = ["k", "l", "m", "n"]
-GUESTS = [0, 1, 2, 3, 4, 5, 6, 999999]
-STAGE_1 = ("put", "nudge", "rank", "sleep", "wake", "move", "tick")
 
 
 def ask(hall, word, *parts):
@@ -30,31 +25,6 @@ def ask(hall, word, *parts):
         return getattr(hall, word)(*parts)
     except DozeError as refusal:
         return type(refusal).__name__, refusal.what
-
-
-def some_deed(chance, words, clock):
-    """A deed of which the most are not refused."""
-    word = chance.choice(words)
-    guest = chance.choice(GUESTS)
-    room = chance.choice(["a", "b", "c"]) if chance.random() < 0.95 else chance.choice(["k", "z"])
-    other = chance.choice(["a", "b", "c"])
-    key = chance.choice(KEYS) if chance.random() < 0.95 else chance.choice(["a", "z"])
-    number = chance.choice([-1, 0, 0, 1])
-    until = chance.choice([None, None, clock, clock + 1, clock + 2, clock + 5])
-    mask = chance.choice([1, 2, 3, 128, 255, 255]) if chance.random() < 0.95 else chance.choice([0, 256])
-    count = chance.choice([0, 1, 1, 2, 3, 1000]) if chance.random() < 0.95 else -1
-    moves = chance.choice([0, 1, 2, 1000]) if chance.random() < 0.95 else -2
-    return {
-        "put": ("put", room, number),
-        "nudge": ("nudge", guest),
-        "rank": ("rank", guest, chance.choice([-2, 0, 0, 1, 2, 9])),
-        "sleep": ("sleep", guest, room, number, until, mask),
-        "wake": ("wake", room, count, mask),
-        "move": ("move", room, other, chance.choice([None, None, number]), count, moves),
-        "tick": ("tick", chance.choice([0, 1, 1, 2]) if chance.random() < 0.95 else -1),
-        "take": ("take", guest, key, until),
-        "give": ("give", guest, key),
-    }[word]
 
 
 class Histories(unittest.TestCase):
